@@ -21,13 +21,12 @@ func Add(a, b int64) (int64, api.Errno) {
 
 // Mul answers the product of a and b; ErrOver: it is no int64.
 func Mul(a, b int64) (int64, api.Errno) {
-	p := product(a, b)
-	low := int64(p.low)
+	high, low := Product(a, b)
 	// The high half of what fits repeats the sign of the low half.
-	if p.high != low>>63 {
+	if high != int64(low)>>63 {
 		return 0, api.ErrOver
 	}
-	return low, api.OK
+	return int64(low), api.OK
 }
 
 // Gcd answers the greatest number above 0 that divides both; 0: there is none, or it is no int64.
@@ -71,20 +70,16 @@ func Ceil(a, b int64) (int64, api.Errno) {
 
 // Cross answers -1, 0 or 1: a times b is less than, as much as, more than c times d.
 func Cross(a, b, c, d int64) int {
-	p, q := product(a, b), product(c, d)
-	if p.high != q.high {
-		return cmp.Compare(p.high, q.high)
+	high, low := Product(a, b)
+	otherHigh, otherLow := Product(c, d)
+	if high != otherHigh {
+		return cmp.Compare(high, otherHigh)
 	}
-	return cmp.Compare(p.low, q.low)
+	return cmp.Compare(low, otherLow)
 }
 
-// wide is a number of 128 bits in two's complement.
-type wide struct {
-	high int64
-	low  uint64
-}
-
-func product(a, b int64) wide {
+// Product answers both halves of the product of a and b, of 128 bits in two's complement: for layers above, whose sums of products are no int64 though what comes of them is one.
+func Product(a, b int64) (int64, uint64) {
 	high, low := bits.Mul64(uint64(a), uint64(b))
 	// Read without a sign, a number below 0 is 2^64 too great: the other factor is then once too often in the high half.
 	if a < 0 {
@@ -93,7 +88,7 @@ func product(a, b int64) wide {
 	if b < 0 {
 		high -= uint64(a)
 	}
-	return wide{int64(high), low}
+	return int64(high), low
 }
 
 // divide answers a by b, rounded towards 0, and whether something is left.

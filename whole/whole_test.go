@@ -186,6 +186,29 @@ func TestCross(t *testing.T) {
 	}
 }
 
+func TestProduct(t *testing.T) {
+	for _, r := range []struct {
+		a, b, high int64
+		low        uint64
+	}{
+		{6, 7, 0, 42},
+		{0, least, 0, 0},
+		{-6, 7, -1, 1<<64 - 42},
+		{6, -7, -1, 1<<64 - 42},
+		{-6, -7, 0, 42},
+		{1 << 32, 1 << 32, 1, 0},
+		{-1 << 32, 1 << 32, -1, 0},
+		{most, most, 1<<62 - 1, 1},
+		{most, -most, -1 << 62, 1<<64 - 1},
+		{least, most, -1 << 62, 1 << 63},
+		{least, least, 1 << 62, 0},
+	} {
+		if high, low := Product(r.a, r.b); high != r.high || low != r.low {
+			t.Errorf("Product(%d, %d): %d, %d, want %d, %d", r.a, r.b, high, low, r.high, r.low)
+		}
+	}
+}
+
 // numbers are small ones, and those near the powers of two where halves, products and sums run over.
 func numbers() []int64 {
 	var l []int64
