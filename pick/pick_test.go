@@ -113,7 +113,7 @@ func TestCanByWindow(t *testing.T) {
 	}
 }
 
-// P13.1: a job that is over has nothing that stops its quanta, though they are late.
+// P13.1: a clock beyond the window, or beyond the job's deadline, stops nothing: only Release is asked.
 func TestCanLate(t *testing.T) {
 	can(t, running(1, 2, 4, 10, 0), 14, true, true)
 	can(t, running(1, 2, 4, 10, 1), 1<<40, true, true)
